@@ -1,0 +1,1 @@
+"""Letters to be handed out at days, behind told happenings or behind other letters."""
