@@ -113,7 +113,7 @@ def bad_terms(place):
     goods = [("day", 60), ("when", 5, 20)] + ([("after", 0, 0)] if place > 0 else [])
     for good in goods:
         bad += [list(good), good[:-1], good[1:], good + (0,), good + (None,), (good,), iter(good), dict.fromkeys(good)]
-        bad += [replaced(good, 0, word) for word in odd_values() if not (len(good) == 2 and word == "day")]
+        bad += [replaced(good, 0, word) for word in but(odd_values(), "day")]
         bad += [replaced(good, 0, word) for word in ("Day", "DAY", "days", "day ", " day", "w", "before", "whenever")]
     bad += [("day", value) for value in bad_numbers(61)]
     bad += [("when", value, 0) for value in bad_numbers(6)]

@@ -192,7 +192,8 @@ class TestForm(unittest.TestCase):
             self.assertIsInstance(node.exc.func, ast.Name)
 
     def test_no_numbers_with_a_point_decorators_or_barred_statements(self):
-        self.assertEqual([node.value for node in nodes_of(ast.Constant) if isinstance(node.value, (float, complex))], [])
+        for node in nodes_of(ast.Constant):
+            self.assertNotIsInstance(node.value, (float, complex))
         self.assertEqual(nodes_of((ast.Div, ast.Global, ast.AsyncFunctionDef, ast.Await, ast.Import, ast.Set)), [])
         for node in nodes_of((ast.FunctionDef, ast.ClassDef)):
             self.assertEqual(node.decorator_list, [])
